@@ -167,11 +167,14 @@ func (m *model) commitSteps(list []api.Write) ([]step, api.Header) {
 }
 
 func (m *model) commit(list []api.Write) api.Errno {
+	if e := m.errors(list); e != api.OK {
+		return e
+	}
 	if m.dead {
 		return api.ErrDead
 	}
-	if e := m.errors(list); e != api.OK || len(list) == 0 {
-		return e
+	if len(list) == 0 {
+		return api.OK
 	}
 	if len(list)+len(cut(m.p, list)) > m.room() {
 		if e := m.apply(); e != api.OK {
@@ -540,11 +543,9 @@ func TestAllScripts(t *testing.T) {
 // refuse lets a log refuse calls that may change nothing.
 func refuse(t *testing.T, d *device.Device, l *wal.Log, p api.Plan, dead bool) {
 	t.Helper()
-	first := func(e api.Errno) api.Errno {
-		if dead {
-			return api.ErrDead
-		}
-		return e
+	nothing := api.OK
+	if dead {
+		nothing = api.ErrDead
 	}
 	last := p.Blocks - 1
 	good := api.Write{Block: last, Data: marked(p.Block, 1)}
@@ -557,9 +558,9 @@ func refuse(t *testing.T, d *device.Device, l *wal.Log, p api.Plan, dead bool) {
 		{[]api.Write{good, {Block: p.IBits - 1, Data: marked(p.Block, 3)}}, api.ErrRange},
 		{[]api.Write{good, {Block: p.Blocks, Data: marked(p.Block, 3)}}, api.ErrRange},
 		{[]api.Write{good, good}, api.ErrValue},
-		{nil, api.OK},
+		{nil, nothing},
 	} {
-		want(t, "Commit", l.Commit(x.list), first(x.wanted))
+		want(t, "Commit", l.Commit(x.list), x.wanted)
 	}
 	other := p
 	other.Data++

@@ -534,15 +534,22 @@ func TestErrorsInOrder(t *testing.T) {
 	for k := range 64 {
 		has := func(i int) bool { return k>>i&1 != 0 }
 		for _, turned := range []bool{false, true} {
-			h := api.Header{Seq: 1}
+			h := api.Header{Seq: 2, Used: 2}
 			if has(4) {
 				h.Seq = math.MaxUint32
 			}
-			d := holding(t, p, h)
+			// Something is pending, so that Apply meets a dead device also where no Seq is left.
+			old := writes(p, 30, 22)
+			d := holding(t, p, h, descBytes(h.Seq-1, []int{22}, 64), old[0].Data)
 			l := made(t, d, p)
 			list := writes(p, 1, 20, 21)
 			wanted := api.OK
 			// From the last error on, so that the one that is told stays.
+			if has(5) {
+				die(t, d)
+				want(t, "Apply", l.Apply(), api.ErrDead)
+				wanted = api.ErrDead
+			}
 			if has(4) {
 				wanted = api.ErrFull
 			}
@@ -561,20 +568,19 @@ func TestErrorsInOrder(t *testing.T) {
 			if turned {
 				slices.Reverse(list)
 			}
-			if has(5) {
-				die(t, d)
-				if has(4) {
-					// A full log can't be made to write, so this one does not know of the death.
-					want(t, "Commit", l.Commit(list), wanted)
-					continue
-				}
-				want(t, "Commit", l.Commit(writes(p, 20, 22)), api.ErrDead)
-				wanted = api.ErrDead
-			}
 			kept := d.Writes()
 			want(t, "Commit", l.Commit(list), wanted)
-			if wanted != api.OK && d.Writes() != kept {
+			if wanted == api.OK {
+				continue
+			}
+			if d.Writes() != kept {
 				t.Errorf("errors %b: %d writes", k, d.Writes()-kept)
+			}
+			wantLog(t, l, p, h, old)
+			if has(5) {
+				// What was refused for another error has not brought the log back.
+				want(t, "Apply", l.Apply(), api.ErrDead)
+				want(t, "Commit of nothing", l.Commit(nil), api.ErrDead)
 			}
 		}
 	}
@@ -751,7 +757,42 @@ func TestSeq(t *testing.T) {
 	want(t, "Apply", l.Apply(), api.OK)
 }
 
-// TestDeadBeneath: P9.2 to P9.4 and P9.6, calls on a log whose device died by another's doing: what asks for nothing is done, the first call that asks for something meets ErrDead, and from there on all are refused, whatever the device does.
+// TestSeqOfTheDead: P9.3, P9.5, P9.6 and R2, a log that has met ErrDead with Seq just below and at its greatest: lists that are too large, then those whose parts would pass it, are told as such, and all others, the empty one too, with ErrDead; behind a crash as well.
+func TestSeqOfTheDead(t *testing.T) {
+	p := planned(t, 64, 160, 4, 70)
+	for left := range 4 {
+		h := api.Header{Seq: math.MaxUint32 - left, Tail: 69, Used: 2}
+		old := writes(p, 1, 90)
+		d := holding(t, p, h, descBytes(h.Seq-1, []int{90}, 64), old[0].Data)
+		l := made(t, d, p)
+		kept, from := image(d), d.Writes()
+		die(t, d)
+		want(t, "Apply", l.Apply(), api.ErrDead)
+		for _, crashed := range []bool{false, true} {
+			if crashed {
+				want(t, "Crash", d.Crash(nil), api.OK)
+			}
+			for n := range 72 {
+				parts := (n + 26) / 27
+				wanted := api.ErrDead
+				if parts > left {
+					wanted = api.ErrFull
+				}
+				if n+parts > 70 {
+					wanted = api.ErrLarge
+				}
+				if got := l.Commit(writes(p, 5, row(p, n)...)); got != wanted {
+					t.Errorf("%d Seq left, Commit of %d: %d, should be %d", left, n, got, wanted)
+				}
+			}
+			want(t, "Apply", l.Apply(), api.ErrDead)
+			wantLog(t, l, p, h, old)
+		}
+		untouched(t, "Commit", d, from, kept)
+	}
+}
+
+// TestDeadBeneath: P9.2 to P9.4 and P9.6, calls on a log whose device died by another's doing: what asks for nothing is done, the first call that asks for something meets ErrDead, and from there on all are refused, whatever the device does: a list that is wrong for what is wrong with it, all else with ErrDead.
 func TestDeadBeneath(t *testing.T) {
 	p := planned(t, 64, 60, 6, 8)
 	first := writes(p, 1, 20, 21)
@@ -780,9 +821,11 @@ func TestDeadBeneath(t *testing.T) {
 			}
 			want(t, "Commit", l.Commit(writes(p, 5, 22)), api.ErrDead)
 			want(t, "Commit of nothing", l.Commit(nil), api.ErrDead)
-			want(t, "Commit of what is wrong", l.Commit(writes(p, 1, 9)), api.ErrDead)
-			want(t, "Commit of a nil block", l.Commit([]api.Write{{}}), api.ErrDead)
-			want(t, "Commit of too much", l.Commit(writes(p, 1, row(p, 20)...)), api.ErrDead)
+			want(t, "Commit of a nil block", l.Commit([]api.Write{{}}), api.ErrArg)
+			want(t, "Commit of no block", l.Commit(writes(p, 1, p.IBits-1)), api.ErrRange)
+			want(t, "Commit of a block twice", l.Commit(writes(p, 1, 20, 20)), api.ErrValue)
+			want(t, "Commit of too much", l.Commit(writes(p, 1, row(p, 8)...)), api.ErrLarge)
+			want(t, "Commit of just Log", l.Commit(writes(p, 1, row(p, 7)...)), api.ErrDead)
 			want(t, "Apply", l.Apply(), api.ErrDead)
 			wantLog(t, l, p, h, first)
 		}
